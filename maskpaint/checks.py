@@ -3,12 +3,18 @@
 from maskpaint.errors import BadComing, BadHouse, BadLot, BadMap, BadNumber
 
 MOST_HOUSES = 7
+LAST_PAINT = 7
 
 
 def is_number(value, least, most):
     """Whether a value is an integer from least to most."""
     # True and False are integers for Python, but not for this package.
     return isinstance(value, int) and not isinstance(value, bool) and least <= value <= most
+
+
+def is_paint(value):
+    """Whether a value is a paint that a painter may give."""
+    return is_number(value, 1, LAST_PAINT)
 
 
 def are_houses(value, houses):

@@ -12,21 +12,30 @@ def least_paint(taken):
     return paint
 
 
-def paints(town, coming):
+def rule_paints(beside, coming):
     """The tuple of the paints that the houses of a coming get by the least rule."""
-    check_map(town)
-    check_coming(town, coming)
-    beside = neighbors(town)
     told = {}
     for house in coming:
         told[house] = least_paint([told[other] for other in beside[house] if other in told])
     return tuple([told[house] for house in coming])
 
 
+def paints_wasted(beside, coming, told):
+    """How many more unlike paints are told than the houses of a coming need."""
+    return len(set(told)) - fewest_paints(beside, coming)
+
+
+def paints(town, coming):
+    """The tuple of the paints that the houses of a coming get by the least rule."""
+    check_map(town)
+    check_coming(town, coming)
+    return rule_paints(neighbors(town), coming)
+
+
 def wasted(town, coming):
     """How many more unlike paints the least rule uses on a coming than its houses need."""
-    used = len(set(paints(town, coming)))
-    return used - fewest_paints(neighbors(town), tuple(sorted(coming)))
+    told = paints(town, coming)
+    return paints_wasted(neighbors(town), coming, told)
 
 
 def longest_row(beside, lot, heaps, rows):

@@ -1,5 +1,6 @@
 """The words of the document, tried out in the plainest way, to judge the program's answers by."""
 
+from functools import cache
 from itertools import combinations, permutations, product
 
 
@@ -117,7 +118,12 @@ def paints(town, coming):
 
 
 def comings(town):
-    return [row for many in range(town[0] + 1) for row in permutations(houses_of(town), many)]
+    return comings_of(town[0])
+
+
+@cache
+def comings_of(houses):
+    return tuple(row for many in range(houses + 1) for row in permutations(range(houses), many))
 
 
 def is_heap(town, lot):

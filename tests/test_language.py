@@ -7,7 +7,7 @@ import warnings
 from pathlib import Path
 
 import maskpaint
-from maskpaint import comings, maps, trees
+from maskpaint import benches, comings, goods, maps, texts, trees, wits
 
 FOLDER = Path(maskpaint.__file__).parent
 FILES = sorted(FOLDER.glob("*.py"))
@@ -24,12 +24,22 @@ BARRED = {
     "eval", "exec", "open", "input", "print", "filter", "vars", "dir", "globals", "locals", "id", "hash",
     "round", "slice", "object", "callable", "ascii", "bin", "hex", "oct", "complex", "memoryview",
     "bytearray", "breakpoint", "compile", "help", "delattr", "issubclass", "format", "chr"}
+BARRED_WORDS = (
+    r"\b(type|typing|enum|Enum|Flag|Generic|Protocol|ABC|namedtuple|NamedTuple|register|mro|elements|open|input|law)\b"
+    "|dataclass|overload|contextmanager|_wall|%")
 INTERFACE = {
     maps: ("near", "most_mutual", "bare_rows", "left_out", "need", "count_paintings", "is_good"),
     trees: ("tree", "map_of", "shows_tree", "tree_need", "tree_paintings"),
     comings: (
         "paints", "wasted", "worst", "most_wasted", "worst_coming", "worst_lots", "shows_worst_lots"),
+    wits: ("follow", "waste_of", "fool", "shows_fool"),
+    goods: ("count_good", "mends", "other_side"),
+    benches: ("Bench",),
+    texts: (
+        "map_text", "tree_text", "coming_text", "wit_text", "read_map", "read_tree", "read_coming", "read_wit"),
 }
+METHODS = {benches.Bench: ("__init__", "come", "paint", "back", "by_rule")}
+PROPERTIES = {benches.Bench: ("coming", "paints", "waste")}
 
 
 def parsed(path):
@@ -75,10 +85,20 @@ class TestLanguage(unittest.TestCase):
                     self.assertNotIn(node.id, BARRED, path.name)
                 self.assertNotIsInstance(node, (ast.Div, ast.AsyncFunctionDef), path.name)
 
+    def test_no_barred_words(self):
+        for path in FILES:
+            self.assertNotRegex(path.read_text("ascii"), BARRED_WORDS)
+
     def test_interface_stands_where_it_is_listed(self):
         for module, names in INTERFACE.items():
             for name in names:
                 self.assertEqual(getattr(module, name).__module__, module.__name__)
+
+    def test_methods_stand_in_their_class(self):
+        for owner, names in METHODS.items():
+            self.assertTrue(all(callable(vars(owner)[name]) for name in names))
+        for owner, names in PROPERTIES.items():
+            self.assertTrue(all(isinstance(vars(owner)[name], property) for name in names))
 
     def test_modules_come_from_this_folder(self):
         for name, module in list(sys.modules.items()):
