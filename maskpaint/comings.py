@@ -12,12 +12,20 @@ def least_paint(taken):
     return paint
 
 
-def rule_paints(beside, coming):
-    """The tuple of the paints that the houses of a coming get by the least rule."""
+def pot_paints(beside, coming, pots):
+    """The tuple of the paints that the least rule gives with so many pots, None for who is sent away."""
     told = {}
     for house in coming:
-        told[house] = least_paint([told[other] for other in beside[house] if other in told])
-    return tuple([told[house] for house in coming])
+        paint = least_paint([told[other] for other in beside[house] if other in told])
+        if paint <= pots:
+            told[house] = paint
+    return tuple([told.get(house) for house in coming])
+
+
+def rule_paints(beside, coming):
+    """The tuple of the paints that the houses of a coming get by the least rule."""
+    # With as many pots as there are houses nobody is sent away.
+    return pot_paints(beside, coming, len(beside))
 
 
 def paints_wasted(beside, coming, told):

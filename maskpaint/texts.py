@@ -23,6 +23,11 @@ def in_words(numbers):
     return [str(number) for number in numbers]
 
 
+def numbers_text(numbers):
+    """The text of some numbers, a blank between."""
+    return " ".join(in_words(numbers))
+
+
 def text_of_lines(lines):
     """The text of some lines, each ended by a newline."""
     return "".join([line + "\n" for line in lines])
@@ -188,7 +193,7 @@ def coming_text(town, coming):
     """The text of a coming."""
     check_map(town)
     check_coming(town, coming)
-    return " ".join(in_words(coming))
+    return numbers_text(coming)
 
 
 def read_coming(town, text):

@@ -2,7 +2,8 @@
 
 import unittest
 
-from maskpaint.errors import PaintError
+from maskpaint.errors import BadMap, PaintError
+from tests import wrong
 
 
 class PaintCase(unittest.TestCase):
@@ -18,6 +19,13 @@ class PaintCase(unittest.TestCase):
         for at, value in enumerate(values):
             with self.subTest(at=at):
                 self.fails(wanted, call, value)
+
+    def fails_for_no_maps(self, calls):
+        """Check that calls raise the error, with its part, for each value that is no map."""
+        for at, (town, part) in enumerate(wrong.MAPS):
+            for call in calls:
+                with self.subTest(at=at):
+                    self.same_kind(self.fails(BadMap, call, town).part, part)
 
     def same_kind(self, value, wanted):
         """Check that a value is a wanted one, and of its very kind (True is 1, but no number)."""

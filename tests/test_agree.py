@@ -5,10 +5,14 @@ import unittest
 from maskpaint.benches import Bench
 from maskpaint.comings import (
     most_wasted, paints, shows_worst_lots, wasted, worst, worst_coming, worst_lots)
+from maskpaint.desks import Desk
 from maskpaint.goods import mends, other_side
 from maskpaint.maps import bare_rows, count_paintings, is_good, left_out, most_mutual, near, need
+from maskpaint.pots import by_pots, fewest_away, sent_away, shows_slip, slip
+from maskpaint.tales import tale
 from maskpaint.texts import coming_text, map_text, read_coming, read_map, read_tree, tree_text
 from maskpaint.trees import map_of, shows_tree, tree, tree_need, tree_paintings
+from maskpaint.twins import may_come, shows_twin_row, twin_row, twins, with_house
 from maskpaint.wits import fool, follow, shows_fool, waste_of
 from tests import plain, plain_wits
 from tests.cases import PaintCase
@@ -111,6 +115,41 @@ class TestOtherNames(PaintCase):
                 self.assertEqual((one.paints, one.waste, one.by_rule()), (two.paints, two.waste, two.by_rule()))
                 self.assertEqual(in_sequence(names, one.coming), two.coming)
 
+    def test_twins(self):
+        for town, names, other in self.each_pair():
+            named = [(renamed(names, (one, two)) + (word,)) for one, two, word in twins(town)]
+            self.assertEqual(twins(other), tuple(sorted(named)))
+            row = twin_row(town)
+            self.assertIs(shows_twin_row(other, None if row is None else in_sequence(names, row)), True)
+            if town[0] < 7:
+                more = names + [town[0]]
+                for lot in plain.lots_of(town)[::5]:
+                    grown, named = with_house(town, lot), with_house(other, renamed(names, lot))
+                    self.assertEqual(named, (grown[0], renamed_all(more, grown[1])))
+                self.assertEqual(may_come(other), renamed_all(names, may_come(town)))
+
+    def test_pots(self):
+        for town, names, other in self.each_pair():
+            for coming in plain.comings(town)[::211]:
+                named = in_sequence(names, coming)
+                for pots in (1, 2, 3):
+                    self.assertEqual(by_pots(other, named, pots), by_pots(town, coming, pots))
+                    self.assertEqual(sent_away(other, named, pots), in_sequence(names, sent_away(town, coming, pots)))
+            for lot in plain.lots_of(town)[::5]:
+                self.assertEqual(fewest_away(other, renamed(names, lot), 2), fewest_away(town, lot, 2))
+            found = slip(town)
+            self.assertIs(shows_slip(other, None if found is None else (in_sequence(names, found[0]), found[1])), True)
+
+    def test_tales(self):
+        for seed, (town, names, other) in enumerate(self.each_pair()):
+            wit = drawn_wit(seed, town, 2 + seed % 20, 1 + seed % 4)
+            found = fool(town, wit)
+            if found is not None:
+                lines, named = (tale(one, wit, coming).splitlines() for one, coming in (
+                    (town, found), (other, in_sequence(names, found))))
+                self.assertEqual(
+                    [line.split(":")[-1] for line in lines], [line.split(":")[-1] for line in named])
+
 
 class TestAgreement(PaintCase):
     def test_trees_and_needs(self):
@@ -174,6 +213,73 @@ class TestAgreement(PaintCase):
                 self.assertEqual(bench.paints, follow(town, wit, coming))
                 self.assertTrue(0 <= bench.waste <= waste)
                 self.assertEqual(bench.by_rule(), paints(town, coming))
+
+    def test_twins_and_trees(self):
+        for town in TOWNS:
+            self.assertEqual(twin_row(town) is None, tree(town) is None)
+            self.assertEqual(len(may_come(town)) > 0 if town[0] < 7 else is_good(town), is_good(town))
+            # Who are near twins here are twins apart on the other side.
+            turned = {"near": "apart", "apart": "near"}
+            self.assertEqual(
+                twins(other_side(town)), tuple((one, two, turned[word]) for one, two, word in twins(town)))
+            self.assertIs(shows_twin_row(other_side(town), twin_row(town)), True)
+
+    def test_a_map_that_grows_by_the_houses_of_another(self):
+        for town in TOWNS:
+            grown = (1, ())
+            for house in range(1, town[0]):
+                grown = with_house(grown, tuple(other for other in near(town, house) if other < house))
+            self.assertEqual(grown, town)
+
+    def test_pots_and_needs(self):
+        for town in TOWNS:
+            for lot in plain.lots_of(town)[::5]:
+                least = need(town, lot)
+                for pots in (0, least, least + 1, 9):
+                    self.assertIs(fewest_away(town, lot, pots) == 0, least <= pots)
+            for coming in plain.comings(town)[::211]:
+                told = paints(town, coming)
+                self.assertEqual(by_pots(town, coming, 9), told)
+                for pots in range(4):
+                    away, lot = sent_away(town, coming, pots), tuple(sorted(coming))
+                    self.assertEqual(by_pots(town, coming, pots).count(None), len(away))
+                    self.assertGreaterEqual(len(away), fewest_away(town, lot, pots))
+                    if is_good(town) and need(town, lot) <= pots:
+                        self.assertEqual(away, ())
+
+    def test_a_slip_is_a_fool_of_the_least_rule(self):
+        for town in TOWNS:
+            found = slip(town)
+            self.assertEqual(found is None, fool(town, ()) is None)
+            if found is not None:
+                coming, pots = found
+                self.assertIs(shows_fool(town, (), coming), True)
+                self.assertIs(shows_slip(town, (fool(town, ()), pots)), True)
+                self.assertIn(None, by_pots(town, coming, pots))
+                self.assertEqual(paints(town, coming)[-1], pots + 1)
+
+    def test_the_last_lines_of_tales(self):
+        for seed, town in enumerate(TOWNS):
+            for wit in ((), drawn_wit(seed, town, 3, 1)):
+                found = fool(town, wit)
+                if found is not None:
+                    used, needed = len(set(follow(town, wit, found))), need(town, tuple(sorted(found)))
+                    *lines, last = tale(town, wit, found).splitlines()
+                    self.assertEqual(last, f"paints {used}, needed {needed}")
+                    self.assertEqual([int(line.split()[1]) for line in lines], list(found))
+                    told = tuple(int(line.split(": ")[1].split(",")[0]) for line in lines)
+                    self.assertEqual(told, follow(town, wit, found))
+
+    def test_a_desk_that_is_told_what_a_wit_paints(self):
+        for seed, town in enumerate(TOWNS):
+            wit, coming = drawn_wit(seed, town), plain.comings(town)[-1 - seed]
+            desk, told = Desk(town), follow(town, wit, coming)
+            for house, paint in zip(coming, told):
+                self.assertEqual(desk.do(f"paint {house} {paint}"), "done")
+            self.assertEqual(desk.do("coming"), coming_text(town, coming))
+            self.assertEqual(desk.do("paints").split(), [str(paint) for paint in told])
+            self.assertEqual(desk.do("rule").split(), [str(paint) for paint in paints(town, coming)])
+            self.assertEqual(int(desk.do("waste")), len(set(told)) - need(town, tuple(sorted(coming))))
 
     def test_mends_and_texts(self):
         for town in TOWNS:

@@ -3,7 +3,7 @@ from random import Random
 
 from maskpaint.benches import Bench
 from maskpaint.comings import paints, wasted
-from maskpaint.errors import BadHouse, BadMap, BadNumber, BadStep
+from maskpaint.errors import BadHouse, BadNumber, BadStep
 from tests import plain, wrong
 from tests.cases import PaintCase
 from tests.towns import CROWN, DRAWN_TREES, EMPTY, FULL, LARGER, LINE, ONE, SMALL, STAR
@@ -126,7 +126,8 @@ class TestBench(PaintCase):
             for coming in plain.comings(town)[::197]:
                 bench = Bench(town)
                 self.assertEqual(tuple(bench.come(house) for house in coming), paints(town, coming))
-                self.assertEqual(seen(bench), (coming, paints(town, coming), wasted(town, coming), paints(town, coming)))
+                told = paints(town, coming)
+                self.assertEqual(seen(bench), (coming, told, wasted(town, coming), told))
 
     def test_drawn_steps(self):
         chance = Random(17)
@@ -155,9 +156,7 @@ class TestWrongArguments(PaintCase):
         self.same_kind(seen(self.bench), self.before)
 
     def test_maps(self):
-        for at, (town, part) in enumerate(wrong.MAPS):
-            with self.subTest(at=at):
-                self.same_kind(self.fails(BadMap, Bench, town).part, part)
+        self.fails_for_no_maps((Bench,))
 
     def test_houses(self):
         self.fails_for_each(BadHouse, wrong.HOUSES, self.bench.come)

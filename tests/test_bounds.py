@@ -1,17 +1,23 @@
 """Maps of seven houses: no pairs, all pairs, a ring, a star, two heaps; and what was reckoned of them by hand."""
 
 import unittest
+from itertools import combinations
 
 from maskpaint.benches import Bench
 from maskpaint.comings import most_wasted, paints, shows_worst_lots, wasted, worst, worst_coming, worst_lots
+from maskpaint.desks import Desk
+from maskpaint.errors import TooMany
 from maskpaint.goods import mends, other_side
 from maskpaint.maps import bare_rows, count_paintings, is_good, left_out, most_mutual, need
+from maskpaint.pots import by_pots, fewest_away, sent_away, shows_slip, slip
+from maskpaint.tales import tale
 from maskpaint.texts import map_text, read_map
 from maskpaint.trees import map_of, shows_tree, tree, tree_need, tree_paintings
+from maskpaint.twins import may_come, shows_twin_row, twin_row, twins, with_house
 from maskpaint.wits import fool, shows_fool, waste_of
 from tests.cases import PaintCase
 from tests.drawn import MANY
-from tests.towns import EMPTY, FULL, line_of, ring_of
+from tests.towns import EMPTY, FULL, all_pairs, line_of, ring_of
 
 EVERYONE = (0, 1, 2, 3, 4, 5, 6)
 RING = ring_of(7)
@@ -104,6 +110,63 @@ class TestSevenHouses(PaintCase):
         self.assertEqual([bench.back() for _ in range(7)], [None] * 7)
         self.assertEqual([bench.come(house) for house in EVERYONE], [1, 1, 1, 2, 2, 2, 2])
         self.same_kind(bench.waste, 0)
+
+    def test_desks(self):
+        desk = Desk(MATES)
+        self.assertEqual([desk.do(f"come {house}") for house in (0, 3, 1, 4, 2, 5, 6)], list("1122334"))
+        self.assertEqual(
+            [desk.do(word) for word in ("waste", "coming", "rule")], ["2", "0 3 1 4 2 5 6", "1 1 2 2 3 3 4"])
+        self.assertEqual([desk.do("back") for _ in range(7)], ["done"] * 7)
+        self.assertEqual([desk.do(f"paint {house} {7 - house}") for house in EVERYONE], ["done"] * 7)
+        self.assertEqual(
+            [desk.do(word) for word in ("waste", "paints", "rule")], ["5", "7 6 5 4 3 2 1", "1 1 1 2 2 2 2"])
+
+    def test_twins(self):
+        self.assertEqual(len(twins(STAR)), 15)
+        self.assertEqual([len(twins(row[0])) for row in TOLD], [21, 21, 0, 15, 9, 0, 0])
+        for town, *_ in TOLD:
+            row = twin_row(town)
+            self.assertEqual(row is not None, is_good(town))
+            self.assertIs(shows_twin_row(town, row), True)
+            self.assertIs(shows_twin_row(town, EVERYONE), town in (EMPTY, FULL, STAR))
+        self.assertIs(shows_twin_row(TWO_HEAPS, (0, 3, 1, 2, 4, 5, 6)), True)
+        self.assertIs(shows_twin_row(TWO_HEAPS, (0, 1, 3, 2, 4, 5, 6)), False)
+
+    def test_a_seventh_house_and_an_eighth(self):
+        self.same_kind(with_house((6, EMPTY[1]), ()), EMPTY)
+        self.same_kind(with_house((6, all_pairs(6)), EVERYONE[:6]), FULL)
+        self.same_kind(with_house(line_of(6), (5,)), line_of(7))
+        self.same_kind(with_house(line_of(6), (0, 5)), RING)
+        # Whoever comes to a star is a neighbor of the middle one, or of just all others, or of nobody.
+        by_middle = [(0,) + lot for size in range(6) for lot in combinations(range(1, 6), size)]
+        self.same_kind(may_come((6, STAR[1][:5])), tuple(sorted(by_middle + [(), (1, 2, 3, 4, 5)])))
+        for town, *_ in TOLD:
+            self.same_kind(self.fails(TooMany, with_house, town, EVERYONE).most, 7)
+            self.same_kind(self.fails(TooMany, may_come, town).most, 7)
+
+    def test_pots(self):
+        coming = (0, 3, 1, 4, 2, 5, 6)
+        self.same_kind(by_pots(MATES, coming, 2), (1, 1, 2, 2, None, None, None))
+        self.same_kind(sent_away(MATES, coming, 2), (2, 5, 6))
+        self.same_kind(sent_away(MATES, coming, 3), (6,))
+        self.same_kind(sent_away(MATES, coming, 4), ())
+        for town, least, *_ in TOLD:
+            self.same_kind(fewest_away(town, EVERYONE, 0), 7)
+            self.same_kind(fewest_away(town, EVERYONE, least), 0)
+            self.same_kind(fewest_away(town, EVERYONE, 9), 0)
+            self.assertGreater(fewest_away(town, EVERYONE, least - 1), 0)
+            self.assertEqual(slip(town) is None, is_good(town))
+            self.assertIs(shows_slip(town, slip(town)), True)
+        self.assertEqual([fewest_away(row[0], EVERYONE, 1) for row in TOLD], [0, 6, 4, 1, 3, 3, 3])
+        self.assertIs(shows_slip(MATES, ((0, 3, 1, 4), 2)), False)
+        self.assertIs(shows_slip(MATES, ((0, 3, 4, 6), 2)), False)
+        self.assertIs(shows_slip(MATES, ((0, 3, 1, 6), 2)), True)
+
+    def test_tales(self):
+        self.same_kind(
+            tale(MATES, (), (0, 3, 1, 6)),
+            "house 0 beside nobody: 1, least\nhouse 3 beside nobody: 1, least\nhouse 1 beside 3: 2, least\n"
+            "house 6 beside 0 1: 3, least\npaints 3, needed 2\n")
 
 
 if __name__ == "__main__":

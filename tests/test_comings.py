@@ -175,10 +175,7 @@ class TestWrongArguments(PaintCase):
         calls = (
             lambda town: paints(town, ()), lambda town: wasted(town, ()), worst, worst_coming, most_wasted,
             worst_lots, lambda town: shows_worst_lots(town, ()))
-        for at, (town, part) in enumerate(wrong.MAPS):
-            for call in calls:
-                with self.subTest(at=at):
-                    self.same_kind(self.fails(BadMap, call, town).part, part)
+        self.fails_for_no_maps(calls)
 
     def test_comings(self):
         for function in (paints, wasted):

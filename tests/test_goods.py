@@ -95,10 +95,7 @@ class TestOtherSide(PaintCase):
 
 class TestWrongArguments(PaintCase):
     def test_maps(self):
-        for at, (town, part) in enumerate(wrong.MAPS):
-            for call in (mends, other_side):
-                with self.subTest(at=at):
-                    self.same_kind(self.fails(BadMap, call, town).part, part)
+        self.fails_for_no_maps((mends, other_side))
 
     def test_arguments_are_not_changed(self):
         town = [3, [[0, 1]]]

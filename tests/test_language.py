@@ -1,13 +1,15 @@
 """Some of the rules for the files of the package, those that a plain look can tell."""
 
 import ast
+import builtins
 import sys
 import unittest
 import warnings
+from functools import cache
 from pathlib import Path
 
 import maskpaint
-from maskpaint import benches, comings, goods, maps, texts, trees, wits
+from maskpaint import benches, comings, desks, goods, maps, pots, tales, texts, trees, twins, wits
 
 FOLDER = Path(maskpaint.__file__).parent
 FILES = sorted(FOLDER.glob("*.py"))
@@ -20,10 +22,18 @@ LIBRARY = {
     "collections": {"defaultdict", "deque"},
     "__future__": {"annotations"},
 }
-BARRED = {
-    "eval", "exec", "open", "input", "print", "filter", "vars", "dir", "globals", "locals", "id", "hash",
-    "round", "slice", "object", "callable", "ascii", "bin", "hex", "oct", "complex", "memoryview",
-    "bytearray", "breakpoint", "compile", "help", "delattr", "issubclass", "format", "chr"}
+BUILTINS = {
+    "len", "range", "enumerate", "zip", "min", "max", "sum", "abs", "sorted", "reversed", "int", "str", "bool", "bytes",
+    "list", "tuple", "dict", "set", "isinstance", "ord", "repr", "any", "all", "divmod", "super", "property",
+    "ValueError", "KeyError", "IndexError", "LookupError", "TypeError", "True", "False", "None"}
+METHODS_OF_BUILTINS = {
+    "append", "clear", "copy", "count", "endswith", "extend", "find", "get", "index", "insert", "isdigit", "items",
+    "join", "keys", "partition", "pop", "remove", "replace", "reverse", "setdefault", "split", "splitlines",
+    "startswith", "strip", "update", "values"}
+# What this package does without, of all that is allowed or not.
+STATEMENTS_DONE_WITHOUT = (
+    ast.AsyncFunctionDef, ast.Global, ast.Nonlocal, ast.Try, ast.With, ast.Match, ast.Yield, ast.YieldFrom,
+    ast.NamedExpr, ast.Set, ast.Delete, ast.Assert, ast.AnnAssign, ast.Starred, ast.Div, ast.Pow, ast.Mod)
 BARRED_WORDS = (
     r"\b(type|typing|enum|Enum|Flag|Generic|Protocol|ABC|namedtuple|NamedTuple|register|mro|elements|open|input|law)\b"
     "|dataclass|overload|contextmanager|_wall|%")
@@ -37,15 +47,43 @@ INTERFACE = {
     benches: ("Bench",),
     texts: (
         "map_text", "tree_text", "coming_text", "wit_text", "read_map", "read_tree", "read_coming", "read_wit"),
+    tales: ("tale",),
+    twins: ("twins", "twin_row", "shows_twin_row", "with_house", "may_come"),
+    pots: ("by_pots", "sent_away", "fewest_away", "slip", "shows_slip"),
+    desks: ("Desk",),
 }
-METHODS = {benches.Bench: ("__init__", "come", "paint", "back", "by_rule")}
+METHODS = {benches.Bench: ("__init__", "come", "paint", "back", "by_rule"), desks.Desk: ("__init__", "do")}
 PROPERTIES = {benches.Bench: ("coming", "paints", "waste")}
 
 
+@cache
 def parsed(path):
     with warnings.catch_warnings():
         warnings.simplefilter("error")
         return ast.parse(path.read_text("ascii"), str(path))
+
+
+def is_plain_name(node):
+    """Whether a statement gives one name a plain value."""
+    return isinstance(node, ast.Assign) and len(node.targets) == 1 and bool(ast.literal_eval(node.value) or True)
+
+
+def many_in_any_and_all(path):
+    """How many generator expressions of a file are all that any or all is passed."""
+    calls = [node for node in ast.walk(parsed(path)) if isinstance(node, ast.Call)]
+    calls = [node for node in calls if isinstance(node.func, ast.Name) and node.func.id in ("any", "all")]
+    return sum(len(node.args) == 1 and isinstance(node.args[0], ast.GeneratorExp) for node in calls)
+
+
+def local_names(path):
+    """The names of all parameters and variables of the functions of a file."""
+    names = set()
+    for function in ast.walk(parsed(path)):
+        if isinstance(function, ast.FunctionDef):
+            nodes = list(ast.walk(function))
+            names |= {node.arg for node in nodes if isinstance(node, ast.arg)}
+            names |= {node.id for node in nodes if isinstance(node, ast.Name) and isinstance(node.ctx, ast.Store)}
+    return names
 
 
 class TestLanguage(unittest.TestCase):
@@ -78,12 +116,45 @@ class TestLanguage(unittest.TestCase):
                     if not node.module.startswith("maskpaint."):
                         self.assertLessEqual({name.name for name in node.names}, LIBRARY[node.module])
 
-    def test_no_barred_names(self):
+    def test_builtins(self):
+        for path in FILES:
+            names = {node.id for node in ast.walk(parsed(path)) if isinstance(node, ast.Name)}
+            self.assertLessEqual(names & set(dir(builtins)), BUILTINS, path.name)
+
+    def test_methods_that_are_called(self):
+        own = {name for names in METHODS.values() for name in names}
+        for path in FILES:
+            nodes = [node.func for node in ast.walk(parsed(path)) if isinstance(node, ast.Call)]
+            called = {node.attr for node in nodes if isinstance(node, ast.Attribute) and node.attr[:1] != "_"}
+            self.assertLessEqual(called, METHODS_OF_BUILTINS | own, path.name)
+
+    def test_statements(self):
         for path in FILES:
             for node in ast.walk(parsed(path)):
-                if isinstance(node, ast.Name):
-                    self.assertNotIn(node.id, BARRED, path.name)
-                self.assertNotIsInstance(node, (ast.Div, ast.AsyncFunctionDef), path.name)
+                self.assertNotIsInstance(node, STATEMENTS_DONE_WITHOUT, path.name)
+            generators = [node for node in ast.walk(parsed(path)) if isinstance(node, ast.GeneratorExp)]
+            self.assertEqual(len(generators), many_in_any_and_all(path), path.name)
+
+    def test_nothing_stands_at_module_level_but_definitions(self):
+        for path in FILES:
+            for at, node in enumerate(parsed(path).body):
+                docstring = at == 0 and isinstance(node, ast.Expr) and isinstance(node.value, ast.Constant)
+                allowed = isinstance(node, (ast.ImportFrom, ast.FunctionDef, ast.ClassDef))
+                self.assertTrue(docstring or allowed or is_plain_name(node), path.name)
+
+    def test_names_are_bound_once(self):
+        for path in FILES:
+            bound = []
+            for node in parsed(path).body:
+                if isinstance(node, ast.ImportFrom):
+                    bound += [name.name for name in node.names]
+                elif isinstance(node, ast.Assign):
+                    bound += [target.id for target in node.targets]
+                elif not isinstance(node, ast.Expr):
+                    bound.append(node.name)
+            self.assertEqual(len(set(bound)), len(bound), path.name)
+            self.assertFalse(set(bound) & set(dir(builtins)), path.name)
+            self.assertFalse(set(bound) & local_names(path), path.name)
 
     def test_no_barred_words(self):
         for path in FILES:

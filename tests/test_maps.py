@@ -130,10 +130,7 @@ class TestWrongArguments(PaintCase):
         calls = (
             lambda town: near(town, 0), lambda town: need(town, ()), most_mutual, bare_rows, is_good,
             left_out, lambda town: count_paintings(town, 3))
-        for at, (town, part) in enumerate(wrong.MAPS):
-            for call in calls:
-                with self.subTest(at=at):
-                    self.same_kind(self.fails(BadMap, call, town).part, part)
+        self.fails_for_no_maps(calls)
 
     def test_houses(self):
         self.fails_for_each(BadHouse, wrong.HOUSES, lambda house: near(LINE, house))

@@ -147,10 +147,7 @@ class TestNeedAndPaintings(PaintCase):
 
 class TestWrongArguments(PaintCase):
     def test_maps(self):
-        for at, (town, part) in enumerate(wrong.MAPS):
-            for call in (tree, lambda town: shows_tree(town, 0)):
-                with self.subTest(at=at):
-                    self.same_kind(self.fails(BadMap, call, town).part, part)
+        self.fails_for_no_maps((tree, lambda town: shows_tree(town, 0)))
 
     def test_trees(self):
         for call in (map_of, tree_need, lambda value: tree_paintings(value, 3)):

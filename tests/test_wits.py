@@ -195,10 +195,7 @@ class TestWrongWits(PaintCase):
 
 class TestWrongArguments(PaintCase):
     def test_maps(self):
-        for at, (town, part) in enumerate(wrong.MAPS):
-            for call in CALLS:
-                with self.subTest(at=at):
-                    self.same_kind(self.fails(BadMap, call, town, ()).part, part)
+        self.fails_for_no_maps([lambda town, call=call: call(town, ()) for call in CALLS])
 
     def test_comings(self):
         for wit in ((), UNLIKE):
